@@ -1,0 +1,1 @@
+"""Sets of grid squares made of boxes, with coordinates of any size."""
