@@ -40,6 +40,16 @@ def steps_of(slabs):
     return steps
 
 
+def changes_of(slabs):
+    """Returns, ascending, tuples (x, before, after): the spans of a form left and right of where they may change."""
+    changes = []
+    before = ()
+    for x, after in steps_of(slabs).items():
+        changes.append((x, before, after))
+        before = after
+    return changes
+
+
 def form_of_steps(steps):
     """Returns the form of a list of pairs (x, spans), ascending, the last one without spans."""
     slabs = []
@@ -73,6 +83,44 @@ def form_of_boxes(boxes):
     while len(forms) > 1:
         forms = [combined(one, other, EITHER) for one, other in zip(forms[::2], forms[1::2] + [()])]
     return forms[0] if forms else ()
+
+
+def frame_of(slabs):
+    """Returns the smallest box around a form, None around the one without slabs."""
+    if not slabs:
+        return None
+    y1 = min([spans[0][0] for _, _, spans in slabs])
+    y2 = max([spans[-1][1] for _, _, spans in slabs])
+    return (slabs[0][0], y1, slabs[-1][1], y2)
+
+
+def reflected(box):
+    """Returns the box of all (-u, -v) with (u, v) in a box."""
+    u1, v1, u2, v2 = box
+    return (1 - u2, 1 - v2, 1 - u1, 1 - v1)
+
+
+def grown(slabs, box):
+    """Returns the form of all (x + u, y + v) with (x, y) in a form and (u, v) in a box."""
+    u1, v1, u2, v2 = box
+    return form_of_boxes([
+        (x1 + u1, y1 + v1, x2 + u2 - 1, y2 + v2 - 1) for x1, x2, spans in slabs for y1, y2 in spans
+    ])
+
+
+def shrunk(slabs, box):
+    """Returns the form of all (x, y) such that a form has (x + u, y + v) for every (u, v) in a box."""
+    if not slabs:
+        return ()
+    frame = frame_of(slabs)
+    x1, y1, x2, y2 = frame
+    u1, v1, u2, v2 = box
+    fitting = (x1 - u1, y1 - v1, x2 - u2 + 1, y2 - v2 + 1)
+    if fitting[0] >= fitting[2] or fitting[1] >= fitting[3]:
+        return ()
+    # Where the box stays inside the frame, only what the frame has beyond the form can keep it out.
+    lacking = combined(form_of_boxes([frame]), slabs, ONLY_FIRST)
+    return combined(form_of_boxes([fitting]), grown(lacking, reflected(box)), ONLY_FIRST)
 
 
 def spans_at(slabs, x):

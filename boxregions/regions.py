@@ -2,7 +2,9 @@
 
 from boxregions.checks import are_whole
 from boxregions.errors import InvalidBox, InvalidRegion, InvalidSquare, Unbounded
-from boxregions.forms import BOTH, EITHER, EXACTLY_ONE, ONLY_FIRST, combined, form_of_boxes, has_square
+from boxregions.forms import (
+    BOTH, EITHER, EXACTLY_ONE, ONLY_FIRST, combined, form_of_boxes, frame_of, grown, has_square, reflected, shrunk,
+)
 
 
 def is_square(thing):
@@ -18,8 +20,8 @@ def is_box(thing):
 class Region:
     """A set of squares: those in finitely many boxes, or all others.
 
-    Objects are made by of, empty, everything and the operators; what is
-    passed to the class itself is not checked.
+    Objects are made by of, empty, everything, the operators and functions of
+    the package; what is passed to the class itself is not checked.
     """
 
     def __init__(self, slabs, is_bounded):
@@ -60,11 +62,7 @@ class Region:
         """The smallest box around a bounded region, None around the empty one."""
         if not self._is_bounded:
             raise Unbounded(self)
-        if not self._slabs:
-            return None
-        y1 = min([slab[2][0][0] for slab in self._slabs])
-        y2 = max([slab[2][-1][1] for slab in self._slabs])
-        return (self._slabs[0][0], y1, self._slabs[-1][1], y2)
+        return frame_of(self._slabs)
 
     def _combined(self, other, kept):
         """Returns the region of the squares that kept keeps (forms.py tells what it is)."""
@@ -86,7 +84,22 @@ class Region:
     def __xor__(self, other):
         return self._combined(other, EXACTLY_ONE)
 
-    # Python comes to these four only if what stands on the left is no region.
+    def __add__(self, box):
+        if not is_box(box):
+            raise InvalidBox(box)
+        if self._is_bounded:
+            return Region(grown(self._slabs, box), True)
+        # What stays outside is what no square of the region comes to: the complement, shrunk the other way.
+        return Region(shrunk(self._slabs, reflected(box)), False)
+
+    def __floordiv__(self, box):
+        if not is_box(box):
+            raise InvalidBox(box)
+        if self._is_bounded:
+            return Region(shrunk(self._slabs, box), True)
+        return Region(grown(self._slabs, reflected(box)), False)
+
+    # Python comes to these six only if what stands on the left is no region.
 
     def __ror__(self, other):
         raise InvalidRegion(other)
@@ -100,12 +113,17 @@ class Region:
     def __rxor__(self, other):
         raise InvalidRegion(other)
 
+    def __radd__(self, other):
+        raise InvalidRegion(other)
+
+    def __rfloordiv__(self, other):
+        raise InvalidRegion(other)
+
     def __invert__(self):
         return Region(self._slabs, not self._is_bounded)
 
     def __contains__(self, square):
-        if not is_square(square):
-            raise InvalidSquare(square)
+        check_square(square)
         x, y = square
         return has_square(self._slabs, x, y) == self._is_bounded
 
@@ -137,6 +155,19 @@ def check_region(thing):
     """Raises InvalidRegion for a value that is not a region."""
     if not isinstance(thing, Region):
         raise InvalidRegion(thing)
+
+
+def check_bounded(thing):
+    """Raises InvalidRegion for a value that is not a region, Unbounded for an unbounded region."""
+    check_region(thing)
+    if not thing.is_bounded:
+        raise Unbounded(thing)
+
+
+def check_square(thing):
+    """Raises InvalidSquare for a value that is not a square."""
+    if not is_square(thing):
+        raise InvalidSquare(thing)
 
 
 def separating(one, other):

@@ -6,6 +6,8 @@ BIG = 10 ** 30
 
 NO_INTEGERS = [None, True, False, "1", b"1", 1.0, (1,), [1], {}, Region.empty(), object()]
 
+NO_BOOLS = [None, 0, 1, -1, "True", "", b"", 1.0, (), (True,), [], [False], {}, Region.empty(), object()]
+
 NO_REGIONS = [None, 0, True, "Region([])", (0, 0, 1, 1), [], [(0, 1, [(0, 1)])], {}, {1}, Region, object()]
 
 NO_SQUARES = [

@@ -1,5 +1,6 @@
 """The interface of boxregions/errors.py."""
 
+import inspect
 import unittest
 
 from boxregions import errors
@@ -32,6 +33,21 @@ class TestErrors(unittest.TestCase):
                 made = getattr(errors, name)(value)
                 self.assertIs(made.value, value, name)
                 self.assertIs(getattr(errors, name)(value=value).value, value, name)
+
+    def test_each_stands_by_itself(self):
+        for name in UNDER_BOX_ERROR:
+            made_of = getattr(errors, name)
+            self.assertIn("__init__", vars(made_of), name)
+            self.assertEqual(list(inspect.signature(made_of.__init__).parameters), ["self", "value"], name)
+            for value in ("a", [1], None):
+                for made in (made_of(value), made_of(value=value)):
+                    self.assertIs(made.value, value, name)
+                    self.assertIs(type(made), made_of)
+                    self.assertIsInstance(made, errors.BoxError)
+                    self.assertIsInstance(made, ValueError)
+                with self.assertRaises(errors.BoxError) as caught:
+                    raise made_of(value)
+                self.assertIs(caught.exception.value, value, name)
 
     def test_exactly_one_value(self):
         for name in UNDER_BOX_ERROR + ["Unbounded", "Blocked", "TooMany", "NoName"]:
