@@ -1,8 +1,10 @@
 """Parts and holes of regions, and the corners that tell their numbers."""
 
 from boxregions.errors import InvalidNumber
+from boxregions.links import box_links
 from boxregions.points import turning_points
 from boxregions.regions import Region, check_region, check_square
+from boxregions.windows import window_around
 
 
 def parts(region, *, corners=False):
@@ -14,8 +16,7 @@ def parts(region, *, corners=False):
     missing = ~region
     if not missing:
         return [Region.everything()]
-    x1, y1, x2, y2 = missing.frame
-    window = Region.of((x1 - 1, y1 - 1, x2 + 1, y2 + 1))
+    window = Region.of(window_around(missing, []))
     pieces = _bounded_parts(window - missing, corners)
     # The edge of the window is in one piece, and that is the first one; all beyond the window belongs to it.
     return pieces[1:] + [pieces[0] | ~window]
@@ -55,7 +56,7 @@ def _check_corners(corners):
 def _bounded_parts(region, corners):
     """Returns the parts of a bounded region by their first squares."""
     boxes = list(region.boxes())
-    links = _links(boxes, corners)
+    links = box_links(boxes, corners)
     seen = set()
     found = []
     # Boxes come in the order of their first squares: so do the parts that they begin.
@@ -74,20 +75,3 @@ def _bounded_parts(region, corners):
                     waiting.append(other)
         found.append(Region.of(*group))
     return found
-
-
-def _links(boxes, corners):
-    """Returns, for each box of a form, a list of the numbers of the boxes joined to it."""
-    starting = {}
-    for at, box in enumerate(boxes):
-        starting.setdefault(box[0], []).append(at)
-    links = [[] for _ in boxes]
-    for at, box in enumerate(boxes):
-        # Boxes of a form that are not side by side in x have at least one square between them.
-        for other in starting.get(box[2], []):
-            low = max(box[1], boxes[other][1])
-            high = min(box[3], boxes[other][3])
-            if low < high or (corners and low == high):
-                links[at].append(other)
-                links[other].append(at)
-    return links
