@@ -1,9 +1,11 @@
-"""The names, arguments and files that the document's interface lists, as far as they have landed."""
+"""The names, arguments and files that the document's interface lists."""
 
 import inspect
 import unittest
 
-from boxregions import borders, counting, growing, moves, parts, regions
+from boxregions import (
+    borders, console, counting, errors, growing, moves, parts, reaches, regions, rooms, shadows, splitting, texts, ways,
+)
 
 FUNCTIONS = [
     (regions, "is_square", ["thing"]),
@@ -30,6 +32,35 @@ FUNCTIONS = [
     (borders, "loops", ["region"]),
     (borders, "from_loops", ["loops"]),
     (borders, "loop_area", ["loop"]),
+    (reaches, "reach", ["one", "other"]),
+    (reaches, "joining", ["region"]),
+    (reaches, "closing", ["region"]),
+    (reaches, "hole_closing", ["region", "square"]),
+    (splitting, "chords", ["region"]),
+    (splitting, "fewest", ["region"]),
+    (splitting, "split", ["region"]),
+    (splitting, "is_split", ["region", "thing"]),
+    (ways, "way_length", ["region", "start", "goal"]),
+    (ways, "way", ["region", "start", "goal"]),
+    (ways, "is_way", ["region", "start", "goal", "thing"]),
+    (shadows, "shadow", ["region", "axis"]),
+    (shadows, "product", ["xs", "ys"]),
+    (shadows, "least_count", ["xs", "ys"]),
+    (texts, "format_region", ["region"]),
+    (texts, "parse_region", ["text"]),
+]
+
+# What stands in the body of the class itself, with its arguments, None for a property or a class value.
+OWN = [
+    (rooms.Room, "MOST", None), (rooms.Room, "is_name", ["thing"]), (rooms.Room, "whole", None),
+    (rooms.Room, "put", ["self", "user", "name", "region"]), (rooms.Room, "join", ["self", "user", "name", "region"]),
+    (rooms.Room, "cut", ["self", "user", "name", "region"]), (rooms.Room, "drop", ["self", "user", "name"]),
+    (rooms.Room, "undo", ["self", "user"]), (rooms.Room, "region", ["self", "name"]), (rooms.Room, "names", ["self"]),
+    (rooms.Room, "log", ["self"]), (rooms.Room, "trial", ["self"]), (rooms.Room, "tried", ["self", "action"]),
+    (rooms.Room, "copy", ["self"]), (rooms.Room, "__len__", ["self"]), (rooms.Room, "__eq__", ["self", "other"]),
+    (rooms.FixedRoom, "__init__", ["self", "frame"]), (rooms.FixedRoom, "frame", None), (rooms.FixedRoom, "copy", ["self"]),
+    (rooms.FixedRoom, "put", ["self", "user", "name", "region"]), (rooms.FixedRoom, "join", ["self", "user", "name", "region"]),
+    (console.Console, "run", ["self", "line"]), (console.Console, "__len__", ["self"]),
 ]
 
 METHODS = [
@@ -76,6 +107,55 @@ class TestInterface(unittest.TestCase):
         self.assertEqual(borders.loops(region=one), [loop])
         self.assertEqual(borders.from_loops(loops=[loop]), one)
         self.assertEqual(borders.loop_area(loop=loop), 4)
+
+    def test_arguments_of_stages_7_to_10_by_name(self):
+        one = regions.Region.of((0, 0, 2, 2))
+        self.assertEqual(reaches.reach(one=one, other=~one), 1)
+        self.assertEqual([reaches.joining(region=one), reaches.closing(region=one)], [0, 0])
+        self.assertEqual(reaches.hole_closing(region=~one, square=(0, 0)), 1)
+        self.assertEqual([splitting.chords(region=one), splitting.fewest(region=one)], [([], []), 1])
+        found = splitting.split(region=one)
+        self.assertIs(splitting.is_split(region=one, thing=found), True)
+        self.assertEqual(ways.way_length(region=one, start=(0, 0), goal=(1, 1)), 2)
+        found = ways.way(region=one, start=(0, 0), goal=(1, 1))
+        self.assertIs(ways.is_way(region=one, start=(0, 0), goal=(1, 1), thing=found), True)
+        self.assertEqual(shadows.shadow(region=one, axis="x"), [(0, 2)])
+        self.assertEqual(shadows.product(xs=[(0, 2)], ys=[(0, 2)]), one)
+        self.assertEqual(shadows.least_count(xs=[(0, 2)], ys=[(0, 3)]), 3)
+
+    def test_arguments_of_stages_11_and_12_by_name(self):
+        one = regions.Region.of((0, 0, 2, 2))
+        for room in (rooms.Room(), rooms.FixedRoom(frame=(0, 0, 2, 2))):
+            room.put(user="ann", name="a", region=one)
+            room.join(user="ann", name="a", region=one)
+            room.cut(user="ann", name="a", region=one)
+            self.assertFalse(room.region(name="a"))
+            room.drop(user="bob", name="a")
+            self.assertEqual([room.undo(user="bob"), room.undo(user="ann"), room.region(name="a")], ["a", "a", one])
+            self.assertEqual([room.tried(action=len), type(room).is_name(thing="a")], [1, True])
+        self.assertEqual(texts.parse_region(text=texts.format_region(region=one)), one)
+        self.assertEqual(console.Console().run(line="names"), "-")
+
+    def test_what_stands_in_rooms_and_consoles_themselves(self):
+        for made, name, arguments in OWN:
+            self.assertIn(name, vars(made), name)
+            if arguments is not None:
+                member = vars(made)[name]
+                member = member.__func__ if isinstance(member, staticmethod) else member
+                self.assertEqual(list(inspect.signature(member).parameters), arguments, name)
+        members = vars(rooms.Room)
+        self.assertIsInstance(members["is_name"], staticmethod)
+        self.assertIsInstance(members["whole"], property)
+        self.assertIsInstance(vars(rooms.FixedRoom)["frame"], property)
+        self.assertTrue(inspect.isgeneratorfunction(members["names"]))
+        self.assertEqual([rooms.FixedRoom.__bases__, rooms.Room.__bases__], [(rooms.Room,), (object,)])
+        self.assertEqual([made.__module__ for made in (rooms.Room, rooms.FixedRoom)], ["boxregions.rooms"] * 2)
+        self.assertEqual(console.Console.__module__, "boxregions.console")
+        for made in (rooms.Room, console.Console):
+            with self.assertRaises(TypeError):
+                made(1)
+        with self.assertRaises(errors.InvalidBox):
+            rooms.FixedRoom(frame=None)
 
     def test_corners_may_be_left_out_and_stand_behind_a_star(self):
         for function in (parts.parts, parts.holes, parts.part_of):
